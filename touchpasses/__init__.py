@@ -1,0 +1,1 @@
+"""Touchpasses: rows of passes that write the curve of a fader."""
