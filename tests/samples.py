@@ -1,6 +1,9 @@
-"""Passes, right ones and wrong ones, and a test case that looks closely at errors."""
+"""Passes, right ones and wrong ones, what is no track, and a test case that looks closely at errors."""
 
 import unittest
+
+from touchpasses.errors import NotATrack
+from touchpasses.tracks import Track
 
 A = ("a", "touch", 2, 8, ((3, 5),), 3, "stop")
 B = ("b", "latch", 4, 10, ((6, 7),), 0, "stop")
@@ -39,7 +42,20 @@ RIGHT = (
     a_pass(tail="stop"), a_pass(tail="on"),
 )
 
-NO_TUPLES = (None, True, False, 0, 7, "", "a", "pass", b"a", [], ["a"], {}, {"a": 1}, object())
+
+class Everything:
+    """A value that calls itself equal to all others, and still is none of them."""
+
+    def __eq__(self, other):
+        return True
+
+    __hash__ = None
+
+
+NO_TUPLES = (None, True, False, 0, 7, "", "a", "pass", b"a", [], ["a"], {}, {"a": 1}, object(), Everything())
+
+NO_TRACKS = NO_TUPLES + (str(Track(12, (A,))), A, (A,), (12, (A,)), (), Track, [Track(12)], (Track(12), Track(12)),
+                         NotATrack(0))
 
 WRONG_NAMES = (
     "", "old", "A", "aB", "1a", "9", "abcdefghi", "a-b", "a_b", "_a", "a b", " a", "a ", "a\n", "a.", "-",
@@ -65,7 +81,7 @@ WRONG_TAILS = ("", "Stop", "STOP", "off", "On", "sto", "stop ", " on", "touch",
 
 # None of these is the name of a pass of a track with the passes A, B, C, or of one without passes.
 NO_NAMES = ("", "x", "A", "old", "aa", " a", "a ", None, True, False, 0, 1, -1, (), ("a",), ("a", "b"), A, [],
-            ["a"], {}, {"a": 1}, b"a", object(), [["a"]], ("a", ["a"]))
+            ["a"], {}, {"a": 1}, b"a", object(), Everything(), [["a"]], ("a", ["a"]))
 
 # Passes that would be right if True and False were integers.
 WRONG_TRUTHS = (
