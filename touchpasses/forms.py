@@ -18,7 +18,7 @@ def form(track, tick):
 def pieces(track):
     """The pieces of the track."""
     check_track(track)
-    return tuple(longest_runs(track.length, track.passes))
+    return tuple(longest_runs(track))
 
 
 def weight_of(track, tick, source):

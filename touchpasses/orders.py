@@ -5,6 +5,7 @@ from touchpasses.curves import taken_by
 from touchpasses.errors import TooMany
 from touchpasses.likeness import alike
 from touchpasses.limits import MOST_ORDERED
+from touchpasses.parts import contains, least_parts_of
 from touchpasses.passes import OLD
 from touchpasses.segments import formed_segments
 from touchpasses.tracks import Track
@@ -18,25 +19,6 @@ def needless(track):
     return tuple(sorted([name for name in track.names if alike(track, track.without(name))]))
 
 
-def all_parts(many):
-    """All sets of indexes below a number, those with fewer first, equally long ones ascending."""
-    found = [()]
-    for k in range(many):
-        found = found + [part + (k,) for part in found]
-    rows = sorted([(len(part), part) for part in found])
-    return [part for _, part in rows]
-
-
-def contains(part, less):
-    """Whether all indexes of the second set are in the first one."""
-    return all([k in part for k in less])
-
-
-def contains_any(part, found):
-    """Whether one of the found sets is in this one."""
-    return any([contains(part, less) for less in found])
-
-
 def does_all(track, part):
     """Whether the passes with these indexes do all."""
     return alike(track, Track(track.length, tuple([track.passes[k] for k in part])))
@@ -47,11 +29,7 @@ def least_parts(track):
     check_track(track)
     # Only its own pass brings a movement into a form, so no set does all without the passes that are heard.
     needed = [k for k, name in enumerate(track.names) if heard(track, name)]
-    found = []
-    for part in all_parts(len(track)):
-        if contains(part, needed) and not contains_any(part, found) and does_all(track, part):
-            found.append(part)
-    return tuple(found)
+    return least_parts_of(len(track), lambda part: contains(part, needed) and does_all(track, part))
 
 
 def swaps(track):
@@ -90,7 +68,7 @@ def orders(track):
     check_track(track)
     if len(track) > MOST_ORDERED:
         raise TooMany(MOST_ORDERED)
-    rows = formed_segments(track.length, track.passes)
+    rows = formed_segments(track)
     wanted = [{source: (tick, weight) for source, tick, weight in terms} for _, _, terms in rows]
     # A level counts the right orders of the last passes by what matters below: the passes that are not
     # yet placed, and what is left of each tick. So orders that leave the same are followed only once.

@@ -1,13 +1,13 @@
 """Pieces: runs (A, B, TERMS), made of segments, each as long as it can be."""
 
-from touchpasses.segments import formed_segments
+from touchpasses.segments import formed_segments, shown_at
 
 
-def run_of(first, end, terms):
-    """The run that a segment is, from the form of its last tick."""
-    if end - first == 1:
-        return first, end, terms
-    return first, end, tuple([(name, None if tick == end - 1 else tick, weight) for name, tick, weight in terms])
+def run_of(segment):
+    """The run that a segment is."""
+    first, end, _ = segment
+    # A source that has always the tick itself has the place None, but in a run of one tick it has the tick.
+    return first, end, shown_at(segment, first if end - first == 1 else None)
 
 
 def can_be_itself(run, place):
@@ -32,11 +32,11 @@ def joined(run, behind):
     return first, end, tuple(found)
 
 
-def longest_runs(length, passes):
+def longest_runs(track):
     """The pieces of a track."""
     found = []
-    for first, end, terms in formed_segments(length, passes):
-        run = run_of(first, end, terms)
+    for segment in formed_segments(track):
+        run = run_of(segment)
         longer = joined(found[-1], run) if found else None
         if longer is None:
             found.append(run)

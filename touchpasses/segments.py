@@ -32,6 +32,13 @@ def segments(length, passes):
     return list(zip(ordered, ordered[1:]))
 
 
-def formed_segments(length, passes):
+def formed_segments(track):
     """The segments of a track as triples (A, B, FORM), FORM being the form of the last tick."""
+    length, passes = track.length, track.passes
     return [(first, end, form_of(passes, length, end - 1)) for first, end in segments(length, passes)]
+
+
+def shown_at(segment, tick):
+    """The form of a tick of a segment; the tick is only shown where a source has the tick itself."""
+    _, end, terms = segment
+    return tuple([(source, tick if place == end - 1 else place, weight) for source, place, weight in terms])

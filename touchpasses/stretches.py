@@ -10,3 +10,12 @@ def longest(stretches):
         else:
             found.append((first, end))
     return tuple(found)
+
+
+def first_gap(stretches, begin, end):
+    """The least tick of the stretch (begin, end) that is in none of these ascending ones, None if there is none."""
+    tick = begin
+    for first, until in stretches:
+        if first <= tick < until:
+            tick = until
+    return tick if tick < end else None

@@ -8,34 +8,38 @@ from touchpasses.stretches import longest
 from touchpasses.weights import WHOLE
 
 
-def heard_of(track, source):
-    """The longest stretches of ticks of a source that come in some form."""
+def heard_in(rows, source):
+    """The longest stretches of ticks of a source that come in some form of a track with these segments."""
     found = []
-    for first, end, terms in formed_segments(track.length, track.passes):
+    for first, end, terms in rows:
         for name, tick, _ in terms:
             if name == source:
                 found.append((first, end) if tick == end - 1 else (tick, tick + 1))
     return longest(found)
 
 
+def kept_in(rows):
+    """The longest stretches of ticks at which the old curve stands, and nothing else."""
+    return longest([(first, end) for first, end, terms in rows if terms == ((OLD, end - 1, WHOLE),)])
+
+
 def heard(track, name):
     """The longest stretches of ticks of the movement of a pass that are heard."""
     check_track(track)
     check_name(track, name)
-    return heard_of(track, name)
+    return heard_in(formed_segments(track), name)
 
 
 def old_heard(track):
     """The longest stretches of ticks of the old curve that are heard."""
     check_track(track)
-    return heard_of(track, OLD)
+    return heard_in(formed_segments(track), OLD)
 
 
 def kept(track):
-    """The longest stretches of ticks at which the old curve stands, and nothing else."""
+    """The longest stretches of ticks that are kept."""
     check_track(track)
-    rows = formed_segments(track.length, track.passes)
-    return longest([(first, end) for first, end, terms in rows if terms == ((OLD, end - 1, WHOLE),)])
+    return kept_in(formed_segments(track))
 
 
 def changed_by(track, name):
