@@ -308,6 +308,48 @@ class Within(TrialCase):
             self.assertEqual(other.changes, before[2] + 1)
 
 
+class Overlapping(TrialCase):
+    """Rows of generators: the trial that began first ends first."""
+
+    def rows(self, trial, step, error=None):
+        with trial:
+            self.act(step)
+            yield
+            if error is not None:
+                raise error
+
+    def begin(self, way, held, errors):
+        """Two overlapping trials with a change in each, and what is told ahead of each of the two."""
+        rows, before = [], []
+        for step, error in zip(way.steps(held), errors):
+            before.append(way.told(held))
+            rows.append(self.rows(held.trial(), step, error))
+            next(rows[-1])
+        return rows, before
+
+    def test_the_one_that_ends_last_goes_back_to_its_own_beginning(self):
+        for way, held in self.each():
+            rows, before = self.begin(way, held, (None, Stop()))
+            self.assertRaises(StopIteration, next, rows[0])
+            self.assertRaises(Stop, next, rows[1])
+            self.assertEqual(way.told(held), before[1])
+
+    def test_the_one_that_ends_first_goes_back_to_its_own_beginning(self):
+        for way, held in self.each():
+            rows, before = self.begin(way, held, (Stop(), None))
+            self.assertRaises(Stop, next, rows[0])
+            self.assertEqual(way.told(held), before[0])
+            self.assertRaises(StopIteration, next, rows[1])
+            self.assertEqual(way.told(held), before[0])
+
+    def test_both_go_back(self):
+        for way, held in self.each():
+            rows, before = self.begin(way, held, (Stop(), Stop()))
+            for one, wanted in zip(rows, before):
+                self.assertRaises(Stop, next, one)
+                self.assertEqual(way.told(held), wanted)
+
+
 class UndoWithin(TrialCase):
 
     def test_undo_goes_back_behind_the_beginning(self):

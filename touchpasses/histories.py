@@ -53,12 +53,8 @@ class Trial:
         history = self._history
         if kind is not None:
             history.now = self._start
-        self.leave()
-
-    # Goes on with the beginning of the trial around the one that ends.
-    def leave(self):
-        start = self._start
-        self._start = start.around
+        # What may end next is the trial around the one that ends here.
+        self._start = self._start.around
 
 
 def lifted(row, index):
